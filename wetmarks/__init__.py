@@ -1,0 +1,1 @@
+"""Wetmarks: strips rolled upon drums and upon one another, while the ink is wet."""
