@@ -5,7 +5,7 @@ from wetmarks.checks import check_cell, check_length, check_place, check_turn
 from wetmarks.errors import BadDrum
 from wetmarks.wholes import is_from
 
-# The least number of sixteen figures.
+# First and step have at most fifteen figures.
 TOO_GREAT = 10 ** 15
 
 
