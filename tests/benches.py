@@ -98,6 +98,27 @@ class Bench:
     def web(self, row, wet):
         return [(face, sorted(self.walk(row, (face, 0, wet)))) for face in self.faces]
 
+    def is_let(self, row, spot, lot):
+        """Point 46: whether a spot shows no face that isn't in a lot."""
+        return set(self.walk(row, spot)) <= set(lot)
+
+    def is_clash(self, row, wet, lot, when, thing):
+        """Point 49's own words, of a tuple of a face of the lot, faces with moments, and lists of such."""
+        _, face, lasts, ways = thing
+        beats, told = self.beats(row), dict(lasts)
+        if face not in lot or len(told) < len(lasts) or told.get(face, -1) < len(beats):
+            return False
+        for beat in range(when, min(when + wet, len(beats))):
+            for one, moment in lasts:
+                if moment > beat and any(told.get(other, -1) < beat for other in beats[beat].get(one, [])):
+                    return False
+        for way in ways:
+            if not way or way[0][1] != when or way[-1][0] in lot:
+                return False
+            if not self.is_way(row, (way[0][0], when, wet), way[-1][0], way):
+                return False
+        return all(moment < when or any(way[0][0] == one for way in ways) for one, moment in lasts)
+
     def is_way(self, row, spot, face, thing):
         """Point 32's own words, of a list of faces of the shop with whole numbers."""
         start, put, wet = spot
@@ -127,6 +148,17 @@ class Bench:
 
 def total(row):
     return sum(deed[-1] for deed in row)
+
+
+def short_benches():
+    """The smallest shops, all faces of which may be walked from at each wetness."""
+    return [
+        Bench([(3, 1)], [8, 3]),
+        Bench([(1, 0)], [1]),
+        Bench([(1, 0), (1, 1)], [4, 1, 2]),
+        Bench([(2, 2), (3, 0)], [6, 5, 2]),
+        Bench([(4, 2), (2, 10 ** 15 - 1)], [9, 4]),
+    ]
 
 
 def small_benches():
@@ -249,6 +281,26 @@ def no_rows(bench):
     for deed in no_deeds(bench):
         told += [([deed], 0), (good + [deed], 2), ([good[0], deed, deed], 1)]
     return told + [(good * 19 + [good[0], ("open", True)], 39)]
+
+
+def no_lots(bench):
+    """Tuples (thing, at) of what is no lot of a shop, and where."""
+    good = [bench.faces[-1], bench.faces[0]]
+    told = [(thing, -1) for thing in no_lists() + [tuple(good), good[0], {face: 0 for face in good}]]
+    for face in no_shop_faces(bench):
+        told += [([face], 0), (good + [face], 2), ([good[1], face, face], 1), ([good[0], face, good[0]], 1)]
+    return told + [(good + good, 2), ([good[0], good[0], None], 1)]
+
+
+def no_menus(bench):
+    """Tuples (thing, at) of what is no menu of a shop of three strips or more, and where."""
+    good = ("roll", 0, [(0, "head", "back")], 2)
+    told = [(thing, -1) for thing in no_lists() + [[], (good,), good, [good] * 7, {0: good}]]
+    amiss = no_deeds(bench) + [("open", 1), ("open", 1000), good[:3] + (0,), good[:3] + (1001,),
+                               good[:3] + (10 ** 30,)]
+    for deed in amiss:
+        told += [([deed], 0), ([good, good, deed], 2), ([good, deed, deed], 1)]
+    return told + [([good] * 5 + [("open", 1)], 5)]
 
 
 def no_spots(bench, last):

@@ -3,7 +3,8 @@
 import random
 import unittest
 
-from benches import Bench, every_plies, no_rows, no_shop_faces, small_benches, some_rows, total
+from benches import (Bench, every_plies, no_rows, no_shop_faces, short_benches, small_benches, some_rows,
+                     total)
 from walks import no_wholes
 from wetmarks.drums import Drum
 from wetmarks.errors import BadRow, NoBeats, NoFace
@@ -11,9 +12,6 @@ from wetmarks.rows import plain, shows
 from wetmarks.shops import Shop
 from wetmarks.webs import ever, grows, parted, stands, times, web
 
-SHORT = [{"drums": [(3, 1)], "strips": [8, 3]}, {"drums": [(1, 0)], "strips": [1]},
-         {"drums": [(1, 0), (1, 1)], "strips": [4, 1, 2]}, {"drums": [(2, 2), (3, 0)], "strips": [6, 5, 2]},
-         {"drums": [(4, 2), (2, 10 ** 15 - 1)], "strips": [9, 4]}]
 
 
 def composed(first, second):
@@ -28,8 +26,7 @@ class SmallWebs(unittest.TestCase):
     @classmethod
     def setUpClass(cls):
         cls.cases = []
-        for told in SHORT:
-            bench = Bench(**told)
+        for bench in short_benches():
             for row in some_rows(bench, 14, 3):
                 webs = [bench.web(row, wet) for wet in range(total(row) + 3)]
                 cls.cases.append((bench, row, webs))

@@ -1,11 +1,15 @@
 """Refuses what is none of what a function takes, and names it."""
 
-from wetmarks.errors import BadDrum, BadPlies, BadRow, BadSpot, NoBeats, NoCell, NoFace, NoPlace, NoTurn
+from wetmarks.errors import BadDrum, BadMarks, BadMenu, BadPlies, BadRow, BadSpot
+from wetmarks.errors import NoBeats, NoCell, NoFace, NoPlace, NoTurn
 from wetmarks.wholes import is_below, is_from
 
 MOST_PLIES = 3
 MOST_DEEDS = 40
 MOST_SPOTS = 40
+MOST_ROLLINGS = 6
+# A rolling of a menu has at most so many beats.
+MOST_BEATS = 1000
 
 
 def check_turn(turn):
@@ -50,6 +54,12 @@ def check_beats(beats):
         raise NoBeats(beats)
 
 
+def check_at_most(most, beats):
+    """Refuse what is no whole number from 0 to most, where beats or deeds are counted."""
+    if not is_below(most + 1, beats):
+        raise NoBeats(beats)
+
+
 def check_number(shop, drum):
     """Refuse what is no number of one of a shop's drums."""
     if not is_below(len(shop.drums()), drum):
@@ -74,6 +84,26 @@ def check_row(shop, row):
     at = first_amiss(0, MOST_DEEDS, lambda deed: is_deed(shop, deed), row)
     if at is not None:
         raise BadRow(at)
+
+
+def check_deed(shop, at, deed):
+    """Refuse what is no deed of a shop, handed in as the one at a place."""
+    if not is_deed(shop, deed):
+        raise BadRow(at)
+
+
+def check_menu(shop, menu):
+    """Refuse what is no menu of rollings of a shop."""
+    at = first_amiss(1, MOST_ROLLINGS, lambda deed: is_rolling(shop, deed), menu)
+    if at is not None:
+        raise BadMenu(at)
+
+
+def check_lot(shop, barred, lot):
+    """Refuse what is no list of unlike faces of a shop, none of them among the barred ones."""
+    at = face_amiss(shop, barred, lot)
+    if at is not None:
+        raise BadMarks(at)
 
 
 def check_spot(shop, last, spot):
@@ -153,6 +183,11 @@ def is_deed(shop, thing):
     return ply_amiss(shop, plies) is None and is_from(0, beats)
 
 
+def is_rolling(shop, thing):
+    """Whether a thing, whatever it is, is a deed that may stand in a menu."""
+    return is_tuple_of(4, thing) and is_deed(shop, thing) and 1 <= thing[3] <= MOST_BEATS
+
+
 def first_amiss(least, most, fits, things):
     """The place of the first thing that doesn't fit, None where all do.
 
@@ -178,6 +213,18 @@ def ply_amiss(shop, plies):
             return place
         taken.add(ply[0])
     return at
+
+
+def face_amiss(shop, barred, lot):
+    """The place of the first thing that may not stand in a lot, as first_amiss tells it."""
+    if not isinstance(lot, list):
+        return -1
+    taken = set(barred)
+    for at, face in enumerate(lot):
+        if not is_shop_face(shop, face) or face in taken:
+            return at
+        taken.add(face)
+    return None
 
 
 def spot_amiss(shop, last, spot):

@@ -64,14 +64,14 @@ def is_way(shop, row, spot, face, thing):
     check_row(shop, row)
     check_spot(shop, last_moment(row), spot)
     check_shop_face(shop, face)
-    if not _is_dated(shop, thing) or len(thing) == 0:
+    if not is_dated(shop, thing) or len(thing) == 0:
         return False
     start, moment, wet = spot
     if thing[0] != (start, moment) or thing[-1][0] != face:
         return False
     last = min(moment + wet, last_moment(row))
     course = course_of(shop, row)
-    steps = [_is_step(course, last, thing[k - 1], thing[k]) for k in range(1, len(thing))]
+    steps = [is_step(course, last, thing[k - 1], thing[k]) for k in range(1, len(thing))]
     return all(steps)
 
 
@@ -79,7 +79,7 @@ def shuts_off(shop, row, spot, thing):
     """Whether a thing, whatever it is, are walls of a spot."""
     check_row(shop, row)
     check_spot(shop, last_moment(row), spot)
-    if not _is_dated(shop, thing):
+    if not is_dated(shop, thing):
         return False
     inside = {face: moment for face, moment in thing}
     if len(inside) < len(thing):
@@ -129,12 +129,41 @@ def spread(inked, near, start, end):
     # However many beats there are, ink that comes to nothing new stays where it is.
     while line and moment < end:
         moment += 1
-        line = _newly_inked(inked, near, line, moment)
+        line = newly_inked(inked, near, line, moment)
+
+
+def newly_inked(inked, near, line, moment):
+    """The faces to which ink comes at a moment from a line of faces, and note them."""
+    new = []
+    for face in line:
+        for other in near[face]:
+            if other not in inked:
+                inked[other] = (moment, face)
+                new.append(other)
+    return new
 
 
 def firsts(inked):
     """Each face that has ink and the first moment at which it has it, sorted."""
     return sorted([(face, inked[face][0]) for face in inked])
+
+
+def is_dated(shop, thing):
+    """Whether a thing, whatever it is, is a list of faces with moments."""
+    if not isinstance(thing, list):
+        return False
+    dated = [
+        is_tuple_of(2, pair) and is_shop_face(shop, pair[0]) and is_from(0, pair[1])
+        for pair in thing
+    ]
+    return all(dated)
+
+
+def is_step(course, last, one, other):
+    """Whether of two faces with moments the other may follow the one on a way."""
+    face, moment = one
+    to, then = other
+    return moment < then <= last and to in _touched(course, then - 1, face)
 
 
 def _lasting(deed, beats):
@@ -155,35 +184,6 @@ def _numbers(shop, row, spots):
         for face in inked_by(course, spot):
             numbers.setdefault(face, []).append(number)
     return numbers
-
-
-def _newly_inked(inked, near, line, moment):
-    """The faces to which ink comes at a moment from a line of faces, and note them."""
-    new = []
-    for face in line:
-        for other in near[face]:
-            if other not in inked:
-                inked[other] = (moment, face)
-                new.append(other)
-    return new
-
-
-def _is_dated(shop, thing):
-    """Whether a thing, whatever it is, is a list of faces with moments."""
-    if not isinstance(thing, list):
-        return False
-    dated = [
-        is_tuple_of(2, pair) and is_shop_face(shop, pair[0]) and is_from(0, pair[1])
-        for pair in thing
-    ]
-    return all(dated)
-
-
-def _is_step(course, last, one, other):
-    """Whether of two faces with moments the other may follow the one on a way."""
-    face, moment = one
-    to, then = other
-    return moment < then <= last and to in _touched(course, then - 1, face)
 
 
 def _touched(course, beat, face):

@@ -1,9 +1,6 @@
-"""Webs: what spots, put on all faces at the beginning of a row, show behind it.
+"""Webs: what spots, put on all faces at the beginning of a row, show behind it."""
 
-Here faces are told by their places among all faces of the shop, and what a face
-has by a number whose bit k says that it has the spot that was put on face k.
-"""
-
+from wetmarks.carrying import behind, carry, fresh, histories, history, least_unlike, numbered, take
 from wetmarks.checks import check_beats, check_row, check_shop_face
 from wetmarks.rows import course_of, firsts, inked_by, last_moment, spread
 
@@ -13,8 +10,7 @@ def web(shop, row, wet):
     check_row(shop, row)
     check_beats(wet)
     faces = shop.faces()
-    has = _fresh(faces)
-    _carry(_numbered(faces, course_of(shop, row)), has, wet)
+    has = behind(shop, row, wet)
     return [
         (face, [faces[other] for other, spots in enumerate(has) if spots >> number & 1])
         for number, face in enumerate(faces)
@@ -31,7 +27,7 @@ def times(shop, row, face):
 def grows(shop, row):
     """All wetnesses at which the web is greater than at one less."""
     check_row(shop, row)
-    return [moment for moment, _ in _history(shop, row)]
+    return [moment for moment, _ in history(shop, row)]
 
 
 def parted(shop, one, other):
@@ -39,15 +35,13 @@ def parted(shop, one, other):
     check_row(shop, one)
     check_row(shop, other)
     faces = shop.faces()
-    mine = _fresh(faces)
-    theirs = _fresh(faces)
-    my_news = {moment: news for moment, news in _history(shop, one)}
-    their_news = {moment: news for moment, news in _history(shop, other)}
-    for moment in sorted(set(list(my_news) + list(their_news))):
-        _take(mine, my_news.get(moment, {}))
-        _take(theirs, their_news.get(moment, {}))
+    mine = fresh(faces)
+    theirs = fresh(faces)
+    for moment, my_news, their_news in histories(shop, one, other):
+        take(mine, my_news)
+        take(theirs, their_news)
         if mine != theirs:
-            put, shown = _least_unlike(mine, theirs)
+            put, shown = least_unlike(mine, theirs)
             return ("wet", moment, faces[put], faces[shown])
     return None
 
@@ -72,72 +66,9 @@ def stands(shop, row):
     """The least many repeats behind which nothing new comes, wherever a spot was put."""
     check_row(shop, row)
     faces = shop.faces()
-    course = _numbered(faces, course_of(shop, row))
-    has = _fresh(faces)
+    course = numbered(faces, course_of(shop, row))
+    has = fresh(faces)
     repeats = 0
-    while _carry(course, has, last_moment(row)):
+    while carry(course, has, last_moment(row)):
         repeats += 1
     return max(1, repeats)
-
-
-def _fresh(faces):
-    """What each face has where its own spot was just put on it."""
-    return [1 << k for k in range(len(faces))]
-
-
-def _numbered(faces, course):
-    """A course in which faces are told by their places."""
-    places = {face: k for k, face in enumerate(faces)}
-    return [
-        (start, end, [(places[face], [places[other] for other in near[face]]) for face in near])
-        for start, end, near in course
-    ]
-
-
-def _history(shop, row):
-    """All news of a row, as _carry tells them."""
-    faces = shop.faces()
-    return _carry(_numbered(faces, course_of(shop, row)), _fresh(faces), last_moment(row))
-
-
-def _carry(course, has, dry):
-    """Carry all spots through a course, till the moment at which they are dry.
-
-    It tells a tuple (moment, news) for each moment at which some faces have
-    more than one beat before: what these then have.
-    """
-    told = []
-    for start, end, near in course:
-        for moment in range(start + 1, min(end, dry) + 1):
-            news = _news(near, has)
-            # Where one beat brings nothing, the later ones of the deed don't either.
-            if not news:
-                break
-            _take(has, news)
-            told.append((moment, news))
-    return told
-
-
-def _news(near, has):
-    """What faces have a beat later, of those that then have more."""
-    news = {}
-    for face, others in near:
-        spots = has[face]
-        for other in others:
-            spots = spots | has[other]
-        if spots != has[face]:
-            news[face] = spots
-    return news
-
-
-def _take(has, news):
-    """Let faces have what the news tell."""
-    for face in news:
-        has[face] = news[face]
-
-
-def _least_unlike(mine, theirs):
-    """The least spot that not the same faces have, and the least face that has it in one alone."""
-    unlike = [one ^ other for one, other in zip(mine, theirs)]
-    # Of a number and its negative the least bit alone is set in both.
-    return min([((bits & -bits).bit_length() - 1, face) for face, bits in enumerate(unlike) if bits])
